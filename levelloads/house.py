@@ -3,6 +3,8 @@
 from levelloads.forms import call_within, read_call
 from levelloads.kept import House
 from levelloads.plan import plan_amounts, plan_peak, plan_shares, plan_totals
+from levelloads.questions import fits_limit, forced_and_mean, greatest_need, house_state, load_info
+from levelloads.questions import peak_periods, schedule_check, slack_between, square_sum, top_sum
 
 
 def change(house, number, numbers, row):
@@ -22,18 +24,38 @@ def change(house, number, numbers, row):
     return house.pass_on(row)
 
 
-def ask(house, number):
-    """The answer to one of the calls that change nothing."""
+def show(house, number):
+    """The answer to one of the calls 7 to 10."""
     if number == 7:
         return [0] + plan_totals(house)
     if number == 8:
         return [0] + plan_amounts(house)
     if number == 9:
         return [0] + plan_shares(house)
-    if number == 10:
-        return [0, plan_peak(house)]
-    # The calls 11 to 20 have no answer yet; no number at all can't be taken for one.
-    return []
+    return [0, plan_peak(house)]
+
+
+def ask(house, number, numbers, row):
+    """The answer to one of the calls 11 to 20."""
+    if number == 11:
+        return top_sum(house, numbers[0])
+    if number == 12:
+        return square_sum(house)
+    if number == 13:
+        return forced_and_mean(house, row)
+    if number == 14:
+        return peak_periods(house)
+    if number == 15:
+        return schedule_check(house, row)
+    if number == 16:
+        return slack_between(house, numbers[0], numbers[1])
+    if number == 17:
+        return fits_limit(house, numbers[0])
+    if number == 18:
+        return greatest_need(house, numbers[0])
+    if number == 19:
+        return load_info(house, numbers[0])
+    return house_state(house)
 
 
 def answer(house, call):
@@ -44,7 +66,9 @@ def answer(house, call):
         return [-2]
     if call.number <= 6:
         return change(house, call.number, call.numbers, call.row)
-    return ask(house, call.number)
+    if call.number <= 10:
+        return show(house, call.number)
+    return ask(house, call.number, call.numbers, call.row)
 
 
 def answers(calls):

@@ -33,6 +33,11 @@ def forced_sums(house):
     return forced
 
 
+def least_sums(house):
+    """The table of the least that each set's totals can be together."""
+    return [forced + base for forced, base in zip(forced_sums(house), set_sums(house.bases))]
+
+
 def rounded_up(amount, parts):
     """The amount divided by the parts, rounded up."""
     return (amount + parts - 1) // parts
@@ -96,13 +101,12 @@ def put_level(totals, least, done, found, level):
 def plan_totals(house):
     """The plan's totals: level by level, from the greatest down.
 
-    `least` is the table of the least that each set's totals can be together. The periods
-    of the levels that are done have no more than that, so that the later levels can be
-    found as if there were only the periods that are left.
+    The periods of the levels that are done have together the least that they can have, so
+    that the later levels can be found as if there were only the periods that are left.
     """
     totals = [0] * len(house.bases)
     sizes = set_sums([1] * len(house.bases))
-    least = [forced + base for forced, base in zip(forced_sums(house), set_sums(house.bases))]
+    least = least_sums(house)
     done = 0
     while done < len(least) - 1:
         level = next_level(least, sizes, done)
@@ -117,12 +121,17 @@ def plan_amounts(house):
     return [total - base for total, base in zip(plan_totals(house), house.bases)]
 
 
+def free_sums(house):
+    """The table of what the plan's amounts give each set beyond what's forced into it."""
+    return [amount - forced for amount, forced in zip(set_sums(plan_amounts(house)), forced_sums(house))]
+
+
 def plan_shares(house):
     """The plan's shares, load by load, each as great as it can be behind those before it.
 
     `free` is the table of what's left in each set beyond what the later loads force into it.
     """
-    free = [amount - forced for amount, forced in zip(set_sums(plan_amounts(house)), forced_sums(house))]
+    free = free_sums(house)
     shares = []
     for need, rooms in zip(house.needs, house.rooms):
         free = [before + own for before, own in zip(free, forced_by(need, rooms))]

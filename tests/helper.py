@@ -1,6 +1,7 @@
-"""What the tests have in common: calls written by name, a plain search, and a check by exchanges."""
+"""What the tests have in common: calls written by name, a plain search, checks by exchanges and by a flow."""
 
 import itertools
+import unittest
 
 from levelloads.house import answers
 
@@ -59,6 +60,31 @@ def built(bases, needs, rooms):
     calls += [("base", period + 1, base) for period, base in enumerate(bases) if base]
     calls += [("load", need, list(row)) for need, row in zip(needs, rooms)]
     return calls
+
+
+SHOWN = (("totals",), ("amounts",), ("shares",), ("peak",))
+KEPT = (("state",), *[("info", load) for load in range(1, 9)])
+PROBES = (
+    *KEPT, *SHOWN, *[("need", load, amount) for load in range(1, 9) for amount in (8, 7, 6, 5)], *KEPT, *SHOWN,
+    ("pass", []), ("pass", [0, 0]), ("pass", [2, 0]), ("pass", [1, 1]), ("add",), ("load", 0, []), *KEPT, *SHOWN,
+    ("open", 2),
+)
+SOME = built([3, 0, 1], [4, 2], [[2, 2, 2], [0, 5, 1]])
+
+
+class Calls(unittest.TestCase):
+
+    def answers_to(self, calls, answer):
+        self.assertEqual(last(*calls), answer)
+
+    def changes_nothing(self, before, call, answer):
+        """The call is answered so, and the house answers all that shows what it keeps as if it hadn't been called."""
+        given = ask(*before, call, *PROBES)
+        self.assertEqual(given[len(before)], answer, call)
+        self.assertEqual(given[len(before) + 1:], ask(*before, *PROBES)[len(before):], call)
+
+    def refused(self, before, call, number):
+        self.changes_nothing(before, call, [number])
 
 
 def plan_of(bases, needs, rooms):
@@ -140,3 +166,76 @@ def faults(bases, needs, rooms, totals, shares):
         if period in more[load] and ("load", load) in reached(("period", period), open_more, open_less):
             found.append("load %d can get more in period %d" % (load + 1, period + 1))
     return found
+
+
+def random_house(chance, most_loads, most_periods, most):
+    periods = chance.randint(1, most_periods)
+    bases = [chance.randint(0, most) for _ in range(periods)]
+    rooms = [[chance.randint(0, most) for _ in range(periods)] for _ in range(chance.randint(0, most_loads))]
+    needs = [chance.randint(0, min(most, sum(row))) for row in rooms]
+    return bases, needs, rooms
+
+
+def sets_of(periods):
+    """All sets with at least one of so many periods (from 1), by the sum of 2^(t - 1) over their periods t."""
+    found = []
+    for code in range(1, 2 ** periods):
+        found.append([period for period in range(1, periods + 1) if code // 2 ** (period - 1) % 2 == 1])
+    return found
+
+
+def forced_into(needs, rooms, chosen):
+    """What's forced into the set of these periods, in the document's own words."""
+    forced = 0
+    for need, row in zip(needs, rooms):
+        outside = sum(room for period, room in enumerate(row, 1) if period not in chosen)
+        forced += max(0, need - outside)
+    return forced
+
+
+def mean_of(bases, needs, rooms, chosen):
+    """The set's mean: the least whole number that, taken for each of its periods, isn't below the sum."""
+    whole = forced_into(needs, rooms, chosen) + sum(bases[period - 1] for period in chosen)
+    down = whole // len(chosen)
+    return down if down * len(chosen) == whole else down + 1
+
+
+def way_on(left, places):
+    """Some way from "from" to "to" over the pairs with something left, or None."""
+    came = {"from": None}
+    waiting = ["from"]
+    while waiting:
+        place = waiting.pop(0)
+        for following in places:
+            if following not in came and left.get((place, following), 0) > 0:
+                came[following] = place
+                waiting.append(following)
+    if "to" not in came:
+        return None
+    way = ["to"]
+    while came[way[-1]] is not None:
+        way.append(came[way[-1]])
+    return list(zip(way[:0:-1], way[-2::-1]))
+
+
+def can_be_amounts(amounts, needs, rooms):
+    """Whether some schedule has these amounts: by the greatest flow from the loads to the periods."""
+    if min(amounts) < 0 or sum(amounts) != sum(needs):
+        return False
+    left = {("from", ("load", load)): need for load, need in enumerate(needs)}
+    left.update({(("period", period), "to"): amount for period, amount in enumerate(amounts)})
+    for load, row in enumerate(rooms):
+        for period, room in enumerate(row):
+            left[("load", load), ("period", period)] = room
+    places = [("load", load) for load in range(len(needs))]
+    places += [("period", period) for period in range(len(amounts))] + ["to"]
+    flow = 0
+    way = way_on(left, places)
+    while way is not None:
+        most = min(left[pair] for pair in way)
+        for here, there in way:
+            left[here, there] -= most
+            left[there, here] = left.get((there, here), 0) + most
+        flow += most
+        way = way_on(left, places)
+    return flow == sum(needs)

@@ -2,33 +2,14 @@
 
 import unittest
 
-from helper import MOST, ask, built, last
-
-ALL = (("totals",), ("amounts",), ("shares",), ("peak",))
-PROBES = (
-    *ALL, *[("need", load, amount) for load in range(1, 9) for amount in (8, 7, 6, 5)], *ALL,
-    ("pass", []), ("pass", [0, 0]), ("pass", [2, 0]), ("pass", [1, 1]), ("add",), ("load", 0, []), *ALL, ("open", 2),
-)
-SOME = built([3, 0, 1], [4, 2], [[2, 2, 2], [0, 5, 1]])
-
-
-class Calls(unittest.TestCase):
-
-    def answers_to(self, calls, answer):
-        self.assertEqual(last(*calls), answer)
-
-    def refused(self, before, call, number):
-        """The call is refused, and the house answers all that shows what it keeps as if it hadn't been called."""
-        given = ask(*before, call, *PROBES)
-        self.assertEqual(given[len(before)], [number], call)
-        self.assertEqual(given[len(before) + 1:], ask(*before, *PROBES)[len(before):], call)
+from helper import MOST, SHOWN, SOME, Calls, ask
 
 
 class Refused(Calls):
 
     def test_all_but_open_while_not_open(self):
         for call in (("load", 0, []), ("need", 1, 0), ("room", 1, 1, 0), ("base", 1, 0), ("add",), ("pass", []),
-                     *ALL, ("squares",), ("because",), ("state",), ("top", 1), ("forced", []), ("check", []),
+                     *SHOWN, ("squares",), ("because",), ("state",), ("top", 1), ("forced", []), ("check", []),
                      ("slack", 1, 1), ("fits", 0), ("could", 1), ("info", 1)):
             self.refused([], call, -2)
             self.refused([("open", 0)], call, -2)
@@ -266,17 +247,17 @@ class Questions(Calls):
         self.answers_to(SOME + [("peak",)], [0, 4])
 
     def test_change_nothing(self):
-        given = ask(*SOME, *ALL, *ALL)
+        given = ask(*SOME, *SHOWN, *SHOWN)
         self.assertEqual(given[-4:], given[-8:-4])
 
     def test_with_no_loads(self):
         before = [("open", 3), ("base", 2, 7)]
-        self.assertEqual(ask(*before, *ALL)[2:], [[0, 0, 7, 0], [0, 0, 0, 0], [0], [0, 7]])
+        self.assertEqual(ask(*before, *SHOWN)[2:], [[0, 0, 7, 0], [0, 0, 0, 0], [0], [0, 7]])
 
     def test_with_no_periods_left(self):
         none = [("open", 1), ("base", 1, 7), ("load", 2, [2]), ("pass", [2])]
-        self.assertEqual(ask(*none, *ALL)[4:], [[0], [0], [0], [0, 0]])
-        self.assertEqual(ask(("open", 1), ("pass", []), *ALL)[2:], [[0], [0], [0], [0, 0]])
+        self.assertEqual(ask(*none, *SHOWN)[4:], [[0], [0], [0], [0, 0]])
+        self.assertEqual(ask(("open", 1), ("pass", []), *SHOWN)[2:], [[0], [0], [0], [0, 0]])
 
     def test_after_changes_the_plan_is_anew(self):
         given = ask(("open", 2), ("load", 4, [4, 4]), ("totals",), ("base", 1, 3), ("totals",),

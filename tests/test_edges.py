@@ -74,6 +74,15 @@ class Ranges(unittest.TestCase):
 
     def test_a_long_row_of_far_numbers(self):
         self.all_refused([("open", 8)], [("load", 0, [FAR] * 200), ("pass", [-FAR] * 200), ("load", FAR, [])])
+        self.all_refused([("open", 8)], [("forced", [FAR] * 200), ("check", [-FAR] * 200)])
+
+    def test_far_numbers_at_every_place_of_the_questions(self):
+        for far in (-FAR, FAR):
+            calls = [("top", far), ("slack", far, 1), ("slack", 1, far), ("fits", far), ("could", far), ("info", far)]
+            calls += [("forced", [1] * place + [far]) for place in range(8)]
+            calls += [("check", [0] * place + [far]) for place in range(64)]
+            self.all_refused([], calls)
+            self.all_refused([("open", 8), ("load", 0, [0] * 8)], calls)
 
     def test_8_loads_and_8_periods(self):
         rooms = [[(load * period) % 5 for period in range(8)] for load in range(1, 9)]
@@ -98,8 +107,15 @@ class Handed(unittest.TestCase):
                 ("totals",), ("amounts",), ("shares",), ("peak",), ("add",), ("base", 1, chance.randint(0, MOST)),
                 ("room", chance.randint(1, 9), chance.randint(1, 9), chance.randint(0, MOST)),
                 ("need", chance.randint(1, 9), chance.randint(0, MOST)), ("load", 0, [FAR] * 150),
-                ("pass", [0] * 8), ("pass", [0] * 200))))
+                ("pass", [0] * 8), ("pass", [0] * 200), *self.some_questions(chance))))
         return calls
+
+    def some_questions(self, chance):
+        return (("top", chance.randint(0, 9)), ("squares",), ("because",), ("state",),
+                ("fits", chance.randint(-1, 10 ** 10)),
+                ("forced", sorted(chance.sample(range(1, 9), chance.randint(0, 8)))), ("forced", [FAR] * 150),
+                ("check", [0] * 64), ("check", [-FAR] * 200), ("slack", chance.randint(1, 8), chance.randint(1, 8)),
+                ("could", chance.randint(1, 9)), ("info", chance.randint(1, 9)))
 
     def test_how_the_answers_lie(self):
         self.assertEqual(answers([5]), [1, -2])
@@ -108,6 +124,20 @@ class Handed(unittest.TestCase):
         self.assertEqual(answers([0, 1, 6, 0, 7, 8, 9, 10]), [1, 0, 2, 0, 0, 1, 0, 1, 0, 1, 0, 2, 0, 0])
         self.assertEqual(answers([0, 1, 6, 3, 7, 7, 7, 7]), [1, 0, 1, -7, 2, 0, 0])
         self.assertEqual(answers([0, 3, 4, 2, 5, 3, 1, 1, 1, 4, 3, -1]), [1, 0, 1, 0, 1, -5, 1, -1])
+
+    def test_how_the_answers_to_questions_lie(self):
+        # Open, and a load that needs 3 with 2 rooms of 2; the plan's totals are 1 and 2.
+        before = [0, 2, 1, 3, 2, 2, 2]
+        for call, answer in (
+                ([11, 1], [2, 0, 2]), ([11, 9], [1, -1]), ([12], [2, 0, 5]), ([13, 2, 1, 2], [3, 0, 3, 2]),
+                ([13, 1, 2], [3, 0, 1, 1]), ([13, 0], [1, -7]), ([14], [3, 0, 1, 2]), ([15, 2, 1, 2], [4, 0, 1, 2, 5]),
+                ([15, 2, 2, 1], [4, 0, 1, 2, 5]), ([15, 2, 3, 0], [2, 0, 0]), ([15, 0], [2, 0, 0]),
+                ([15, 1, -1], [1, -1]), ([16, 2, 1], [2, 0, 1]), ([16, 1, 2], [2, 0, 0]), ([16, 3, 3], [1, -8]),
+                ([17, 1], [2, 0, 0]), ([17, 2], [2, 0, 1]), ([18, 1], [2, 0, 4]), ([18, 2], [1, -5]),
+                ([19, 1], [4, 0, 3, 2, 2]), ([19, 2], [1, -5]), ([20], [6, 0, 2, 1, 0, 0, 0])):
+            self.assertEqual(answers(before + call + [10]), [1, 0, 2, 0, 1] + answer + [2, 0, 2], call)
+        self.assertEqual(answers([0, 1, 6, 0, 14, 12, 15, 0, 20]),
+                         [1, 0, 2, 0, 0, 1, 0, 2, 0, 0, 4, 0, 1, 0, 0, 4, 0, 0, 0, 1])
 
     def test_the_forms_of_all_calls_are_read(self):
         between = (("top", 3), ("squares",), ("forced", [1, 2]), ("forced", []), ("because",), ("check", [7] * 3),
@@ -152,6 +182,12 @@ class Handed(unittest.TestCase):
         calls = self.long_list()
         self.assertEqual(len(parted(answers(flat(calls)), 200)), 200)
         self.assertEqual(ask(*[("peak",)] * 200), [[-2]] * 200)
+
+    def test_the_longest_list(self):
+        calls = [("open", 8)] + [("check", [MOST] * 64)] * 100 + [("forced", [1] * 200)] * 45 + [("state",)] * 54
+        self.assertLessEqual(len(flat(calls)), 16000)
+        expected = [[0]] + [[0, 0]] * 100 + [[-1]] * 45 + [[0, 8, 0, 0] + [0] * 8] * 54
+        self.assertEqual(ask(*calls), expected)
 
     def test_nothing_is_printed(self):
         out = io.StringIO()

@@ -1,6 +1,7 @@
 """The form of the package's files, as far as it can be seen from outside."""
 
 import ast
+import builtins
 import pathlib
 import re
 import unittest
@@ -16,6 +17,10 @@ OUTSIDE = (
     ast.With, ast.Match, ast.Delete, ast.Global, ast.Nonlocal, ast.Assert, ast.Yield, ast.YieldFrom, ast.Await,
     ast.AsyncFunctionDef, ast.AsyncFor, ast.AsyncWith, ast.SetComp, ast.DictComp, ast.GeneratorExp, ast.NamedExpr,
     ast.Starred, ast.Div, ast.Pow, ast.Import, ast.AnnAssign,
+)
+OWN = (
+    "len", "range", "enumerate", "zip", "min", "max", "sum", "abs", "sorted", "reversed", "int", "str", "bool", "list",
+    "tuple", "dict", "set", "frozenset", "isinstance", "ord", "repr", "any", "all", "divmod",
 )
 
 
@@ -68,6 +73,37 @@ class Language(unittest.TestCase):
                     self.assertEqual(len(node.targets), 1, name)
                 if isinstance(node, (ast.Name, ast.arg)):
                     self.assertFalse((node.id if isinstance(node, ast.Name) else node.arg).startswith("_"), name)
+
+    def test_no_other_name_of_python_s_own(self):
+        for name, tree in trees():
+            for node in ast.walk(tree):
+                if isinstance(node, ast.Name) and node.id in vars(builtins):
+                    self.assertIn(node.id, OWN, name)
+                    self.assertIsInstance(node.ctx, ast.Load, name)
+                if isinstance(node, (ast.arg, ast.FunctionDef, ast.ClassDef)):
+                    called = node.arg if isinstance(node, ast.arg) else node.name
+                    self.assertNotIn(called, vars(builtins), name)
+
+    def test_no_local_is_called_like_an_import(self):
+        for name, tree in trees():
+            imported = {alias.name for node in tree.body if isinstance(node, ast.ImportFrom) for alias in node.names}
+            for node in ast.walk(tree):
+                if isinstance(node, ast.arg):
+                    self.assertNotIn(node.arg, imported, name)
+                if isinstance(node, ast.Name) and isinstance(node.ctx, ast.Store):
+                    self.assertNotIn(node.id, imported, name)
+
+    def test_what_is_imported_is_used_and_stands_there(self):
+        defined = {}
+        for name, tree in trees():
+            defined["levelloads." + name[:-3]] = {node.name for node in tree.body if hasattr(node, "name")}
+        for name, tree in trees():
+            used = {node.id for node in ast.walk(tree) if isinstance(node, ast.Name)}
+            for node in tree.body:
+                if isinstance(node, ast.ImportFrom):
+                    for alias in node.names:
+                        self.assertIn(alias.name, defined[node.module], name)
+                        self.assertIn(alias.name, used, name)
 
 
 if __name__ == "__main__":

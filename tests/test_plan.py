@@ -4,7 +4,7 @@ import itertools
 import random
 import unittest
 
-from helper import MOST, faults, plan_of, searched, ways_of
+from helper import MOST, faults, plan_of, random_house, searched, ways_of
 
 
 def schedules_of(needs, rooms):
@@ -12,14 +12,6 @@ def schedules_of(needs, rooms):
     for need, row in zip(needs, rooms):
         count *= len(ways_of(need, row))
     return count
-
-
-def random_house(chance, most_loads, most_periods, most):
-    periods = chance.randint(1, most_periods)
-    bases = [chance.randint(0, most) for _ in range(periods)]
-    rooms = [[chance.randint(0, most) for _ in range(periods)] for _ in range(chance.randint(0, most_loads))]
-    needs = [chance.randint(0, min(most, sum(row))) for row in rooms]
-    return bases, needs, rooms
 
 
 class Plan(unittest.TestCase):
